@@ -1,0 +1,1 @@
+"""Sherdhall: a store of rows in pieces over houses, mended, looked after and moved."""
