@@ -33,10 +33,15 @@ def is_place(thing, *, shape=PLAIN):
     return is_between(thing, 0, count(shape=shape) - 1)
 
 
+def check_place(thing, shape):
+    """Refuse what is no place of the shape."""
+    if not is_place(thing, shape=shape):
+        raise NoPlace(thing)
+
+
 def kind_of(place, *, shape=PLAIN):
     """What the place is: ("data", group, at), ("local", group) or ("over", number)."""
-    if not is_place(place, shape=shape):
-        raise NoPlace(place)
+    check_place(place, shape)
     groups, size, _ = shape
     group, at = divmod(place, size + 1)
     if group >= groups:

@@ -61,8 +61,8 @@ def breaches(name, text):
 def right_name(name):
     """Whether a file may be called so."""
     stem = name[:-3]
-    return (FILE_NAME.fullmatch(name) is not None and name not in BARRED_FILES and not name.startswith(("law_", "test_"))
-            and stem not in vars(builtins) and stem not in LIBRARY and not keyword.iskeyword(stem))
+    return (FILE_NAME.fullmatch(name) is not None and name not in BARRED_FILES
+            and not name.startswith(("law_", "test_")) and stem not in vars(builtins) and stem not in LIBRARY and not keyword.iskeyword(stem))
 
 
 def in_line(line):

@@ -1,5 +1,8 @@
 """What several tests need: shapes, things that are none, and fillings made by the document's words alone."""
 
+import functools
+import itertools
+
 SHAPES = [(groups, size, sums) for groups in range(1, 5) for size in range(1, 5) for sums in range(3)]
 SMALL = [shape for shape in SHAPES if shape[0] * (shape[1] + 1) + shape[2] <= 8]
 TEN = [shape for shape in SHAPES if shape[0] * (shape[1] + 1) + shape[2] == 10]
@@ -59,3 +62,48 @@ def some_numbers(many, seed=1):
         state = (state * 1103515245 + 12345) % 2 ** 31
         out.append(state // 65536 % 97)
     return out
+
+
+@functools.cache
+def told_places(left, shape):
+    """The places that a tuple of left places tells, found by taking their numbers in the ones out of the others'."""
+    ones = ones_of(shape)
+    rows = {}
+    for place in left:
+        rest = rest_of([one[place] for one in ones], rows)
+        leads = [at for at, number in enumerate(rest) if number != 0]
+        if leads:
+            undo = pow(rest[leads[0]], 95, 97)
+            rows[leads[0]] = [number * undo % 97 for number in rest]
+    places = range(len(kinds(shape)))
+    return [place for place in places if not any(rest_of([one[place] for one in ones], rows))]
+
+
+def rest_of(numbers, rows):
+    """The numbers when each row, which begins at its key, is taken out of them."""
+    for at in range(len(numbers)):
+        if at in rows:
+            by = numbers[at]
+            numbers = [(number - by * other) % 97 for number, other in zip(numbers, rows[at])]
+    return numbers
+
+
+def lists_of(places, shortest, longest):
+    """All lists, as tuples, of at least and at most so many of the places."""
+    return [chosen for many in range(shortest, longest + 1) for chosen in itertools.combinations(places, many)]
+
+
+def some_lists(shape, many, seed=1):
+    """So many lists, as tuples, of some of the shape's places, the same for the same seed."""
+    places = len(kinds(shape))
+    numbers = some_numbers(many * places, seed)
+    out = []
+    for at in range(many):
+        part = numbers[at * places:(at + 1) * places]
+        out.append(tuple(place for place in range(places) if part[place] > 30 + at % 4 * 12))
+    return out
+
+
+def muddled(left):
+    """The same places in another order, some of them twice."""
+    return list(left)[::-2] + list(left)[::3] + list(left)
