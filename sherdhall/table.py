@@ -98,6 +98,12 @@ class Table:
         name, length, shape = self._begun[ticket]
         return (name, length, shape, list(self._homes[ticket]))
 
+    def summary(self):
+        """All that is told of kept tickets, names, and what comes next, but not of unsealed tickets."""
+        kept = [(ticket, self.about_ticket(ticket)) for ticket in self.kept_tickets()]
+        hours = [(name, self.hours_of(name)) for name in self.told_names()]
+        return (kept, hours, self._floor, self._ticket, self._hour)
+
     def learn(self, row):
         """Let a row, that fits, come behind all that were learned."""
         word = row[1]

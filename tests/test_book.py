@@ -130,7 +130,7 @@ class Torn(unittest.TestCase):
         self.assertIs(is_torn((-5,)), False)
         self.assertIs(is_torn((10 ** 59, None)), True)
         self.assertIs(is_torn((3, 5)), True)
-        for thing in ((), (True,), ("a",), (None, 1), ("ready", 1)):
+        for thing in ((), (True,), ("a",), (None, 1), ("ready", 1), [2], [3, "ready"], "ab", None, 5):
             self.assertIs(is_torn(thing), False)
 
 

@@ -22,6 +22,9 @@ FUNCTIONS = {
     "book": {"is_row": "(thing)", "is_torn": "(row)", "right_book": "(books)"},
     "table": {"replay": "(rows)"},
     "reading": {"readable": "(ground, ticket, homes)"},
+    "scrub": {"scrub": "(store)"},
+    "care": {"mend": "(store, ticket, place, *, into=None)", "sweep": "(store)", "forget": "(store, hour)",
+             "fold": "(store)"},
 }
 # Of each class its methods; __init__ as it is called.
 CLASSES = {
@@ -41,6 +44,19 @@ CLASSES = {
         "next_ticket": "(self)", "next_hour": "(self)", "least_hour": "(self)", "kept_tickets": "(self)",
         "unsealed_tickets": "(self)", "ticket_at": "(self, name, hour)", "names_at": "(self, hour)",
         "hours_of": "(self, name)", "about_ticket": "(self, ticket)"},
+    ("store", "Store"): {
+        "__init__": "(self, ground)", "begin": "(self, name, row, *, homes, shape=(2, 3, 2))",
+        "lay": "(self, ticket, place)", "seal": "(self, ticket)", "give_up": "(self, ticket)",
+        "put": "(self, name, row, *, homes, shape=(2, 3, 2))", "drop": "(self, name)",
+        "read": "(self, name, *, at=None)", "read_by": "(self, name, *, at=None)",
+        "why_lost": "(self, name, *, at=None)", "hours": "(self, name)", "names": "(self, *, at=None)",
+        "kept": "(self)", "open_tickets": "(self)", "about": "(self, ticket)", "is_busy": "(self)",
+        "entries": "(self)", "__eq__": "(self, other)", "__len__": "(self)", "__repr__": "(self)"},
+    ("town", "Town"): {
+        "__init__": "(self, rows=())", "listed": "(self)", "house_names": "(self)", "zone_names": "(self)",
+        "zone_of": "(self, name)", "weight_of": "(self, name)", "with_house": "(self, name, zone, weight)",
+        "weighing": "(self, name, weight)", "without": "(self, name)", "__eq__": "(self, other)",
+        "__len__": "(self)", "__repr__": "(self)"},
 }
 VALUES = [("field", "PRIME", 97), ("shapes", "PLAIN", (2, 3, 2)), ("shapes", "MARKS", (1, 11, 40, 30)),
           ("laying", "MOST", 60)]
