@@ -25,6 +25,12 @@ FUNCTIONS = {
     "scrub": {"scrub": "(store)"},
     "care": {"mend": "(store, ticket, place, *, into=None)", "sweep": "(store)", "forget": "(store, hour)",
              "fold": "(store)"},
+    "scores": {"number_of": "(name)", "score": "(town, name, house)", "room": "(town, *, zone)",
+               "first_set": "(town, name, *, pieces, zone)", "is_right": "(town, homes, *, pieces, zone)"},
+    "homes": {"loads": "(table)", "is_within": "(town, table, *, zone, level)", "many_moves": "(table, other)",
+              "paired": "(town, homes, houses)"},
+    "papers": {"worth": "(town, table, paper, *, zone, level)"},
+    "settling": {"settle": "(town, table, *, zone, level=None, moves=None)", "stairs": "(town, table, *, zone)"},
 }
 # Of each class its methods; __init__ as it is called.
 CLASSES = {
@@ -57,6 +63,9 @@ CLASSES = {
         "zone_of": "(self, name)", "weight_of": "(self, name)", "with_house": "(self, name, zone, weight)",
         "weighing": "(self, name, weight)", "without": "(self, name)", "__eq__": "(self, other)",
         "__len__": "(self)", "__repr__": "(self)"},
+    ("papers", "Paper"): {
+        "__init__": "(self, for_tickets, for_zones, for_houses)", "__eq__": "(self, other)"},
+    ("settling", "Settling"): {},
 }
 VALUES = [("field", "PRIME", 97), ("shapes", "PLAIN", (2, 3, 2)), ("shapes", "MARKS", (1, 11, 40, 30)),
           ("laying", "MOST", 60)]
