@@ -22,14 +22,18 @@ def are_homes(thing, houses, many):
     return len(set(thing)) == many
 
 
+def check_narrow(shape):
+    """Refuse what is no shape, and one of more places than a store takes."""
+    if count(shape=shape) > WIDEST:
+        raise NoShape(shape)
+
+
 def check_put(name, row, homes, shape, houses):
     """Refuse what can not be begun."""
     check_name(name)
     check_row(row)
-    many = count(shape=shape)
-    if many > WIDEST:
-        raise NoShape(shape)
-    if not are_homes(homes, houses, many):
+    check_narrow(shape)
+    if not are_homes(homes, houses, count(shape=shape)):
         raise NoHomes(list(homes) if isinstance(homes, list) else homes)
 
 

@@ -99,7 +99,8 @@ class Moves(unittest.TestCase):
         for seed in range(60):
             draw = random.Random(seed)
             table = drawn_table(draw, ROWS, 4, 5)
-            other = {ticket: draw.sample([row[0] for row in ROWS] + ["xa", "xb"], len(table[ticket])) for ticket in table}
+            houses = [row[0] for row in ROWS] + ["xa", "xb"]
+            other = {ticket: draw.sample(houses, len(table[ticket])) for ticket in table}
             self.assertEqual(many_moves(table, other), moves_to(table, other))
 
 

@@ -31,6 +31,10 @@ FUNCTIONS = {
               "paired": "(town, homes, houses)"},
     "papers": {"worth": "(town, table, paper, *, zone, level)"},
     "settling": {"settle": "(town, table, *, zone, level=None, moves=None)", "stairs": "(town, table, *, zone)"},
+    "moves": {"moves_of": "(town, table, other)", "moved": "(table, moves)", "rounds": "(moves, *, lanes=2)",
+              "is_rounds": "(moves, told, *, lanes=2)", "neck": "(moves)"},
+    "texts": {"show_town": "(town)", "show_table": "(table)", "show_move": "(move)", "read_town": "(text)",
+              "read_table": "(text)"},
 }
 # Of each class its methods; __init__ as it is called.
 CLASSES = {
@@ -66,9 +70,16 @@ CLASSES = {
     ("papers", "Paper"): {
         "__init__": "(self, for_tickets, for_zones, for_houses)", "__eq__": "(self, other)"},
     ("settling", "Settling"): {},
+    ("keeper", "Keeper"): {
+        "__init__": "(self, ground, town, *, shape=(2, 3, 2), zone=3)", "limit": "(self)", "use": "(self, town)",
+        "usable": "(self)", "put": "(self, name, row)", "read": "(self, name, *, at=None)", "drop": "(self, name)",
+        "table": "(self)", "resettle": "(self, *, level=None, moves=None)", "plan": "(self)", "step": "(self)"},
+    ("desk", "Desk"): {
+        "__init__": "(self, *, shape=(2, 3, 2), zone=3)", "say": "(self, row)", "say_all": "(self, orders)",
+        "is_open": "(self)", "depth": "(self)", "trail": "(self)", "order_words": "(self)"},
 }
 VALUES = [("field", "PRIME", 97), ("shapes", "PLAIN", (2, 3, 2)), ("shapes", "MARKS", (1, 11, 40, 30)),
-          ("laying", "MOST", 60)]
+          ("laying", "MOST", 60), ("moves", "LANES", 2), ("keeper", "ZONE", 3)]
 
 
 class Interface(unittest.TestCase):

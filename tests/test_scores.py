@@ -103,7 +103,8 @@ class FirstSets(Grounds):
             for zone in LIMITS:
                 self.held(rows, "tides", pieces, zone)
         self.assertEqual(len(first_set(Town(rows), "tides", pieces=24, zone=3)), 24)
-        self.refused(NoRoom, {"name": "tides", "need": 24, "have": 16}, first_set, Town(rows), "tides", pieces=24, zone=2)
+        fields = {"name": "tides", "need": 24, "have": 16}
+        self.refused(NoRoom, fields, first_set, Town(rows), "tides", pieces=24, zone=2)
 
     def test_of_equal_scores_the_lesser_name(self):
         one, other = namesakes()
@@ -180,7 +181,7 @@ class RightSets(Grounds):
 class OneHouseOtherwise(unittest.TestCase):
 
     def held(self, rows, other, house, *, comes):
-        """[63]: the first sets are alike, or one has that house (where it comes, the other one's) in place of another."""
+        """[63]: the first sets are alike, or the one behind has that house, where it comes, in place of another one."""
         for zone in (1, 2, 3):
             for pieces in range(len(rows) + 2):
                 try:
@@ -225,7 +226,8 @@ class OneHouseOtherwise(unittest.TestCase):
                 for inside, (house, _, _) in itertools.product(told, in_use(rows)):
                     others = [one for one in told if one != inside] + [house]
                     if house not in told and is_right(town, others, pieces=pieces, zone=zone):
-                        self.assertTrue((-points(rows, "tides", inside), inside) < (-points(rows, "tides", house), house))
+                        first, second = [(-points(rows, "tides", one), one) for one in (inside, house)]
+                        self.assertTrue(first < second)
 
 
 if __name__ == "__main__":

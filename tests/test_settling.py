@@ -1,4 +1,4 @@
-"""[70] to [72]: settlings, their papers, and stairs, held against trying all tables; and that large ones are told soon."""
+"""[70] to [72]: settlings, their papers, and stairs, held against trying all tables; large ones are told soon."""
 
 import random
 import time
@@ -34,7 +34,7 @@ def small(seed):
 
 
 def large(seed):
-    """A drawn town of twelve houses and a table of twelve tickets with as many pieces as it has room for, and a limit."""
+    """A drawn town of twelve houses, a table of twelve tickets with as many pieces as have room, and a limit."""
     draw = random.Random(seed)
     rows = [(name, draw.choice("abcdefgh"[:draw.choice([1, 3, 8])]), draw.choice([0, 1, 1, 1, 2, 3, 1000]))
             for name in NAMES]

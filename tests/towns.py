@@ -1,4 +1,4 @@
-"""What the tests of towns and settlings need: drawn towns and tables, and what is told of them, found by going through all."""
+"""What the tests of towns and settlings need: drawn towns and tables, and what is told of them, found by trying all."""
 
 import itertools
 
