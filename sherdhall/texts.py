@@ -60,27 +60,22 @@ def homes_of(word):
     return (int(ticket), homes)
 
 
-def check_next(at, row, rows):
-    """Refuse what comes of a word where it is nothing, or is not behind all the rows by its first member."""
-    if row is None or len(rows) > 0 and row[0] <= rows[-1][0]:
-        raise NoText(at)
+def rows_of(text, told_by):
+    """What each word tells by a function of words: tuples, that rise by their first members."""
+    rows = []
+    for at, word in enumerate(words_of(text)):
+        row = told_by(word)
+        if row is None or len(rows) > 0 and row[0] <= rows[-1][0]:
+            raise NoText(at)
+        rows.append(row)
+    return rows
 
 
 def read_town(text):
     """The town that a text tells."""
-    rows = []
-    for at, word in enumerate(words_of(text)):
-        row = house_of(word)
-        check_next(at, row, rows)
-        rows.append(row)
-    return Town(rows)
+    return Town(rows_of(text, house_of))
 
 
 def read_table(text):
     """The table that a text tells."""
-    rows = []
-    for at, word in enumerate(words_of(text)):
-        row = homes_of(word)
-        check_next(at, row, rows)
-        rows.append(row)
-    return {ticket: homes for ticket, homes in rows}
+    return {ticket: homes for ticket, homes in rows_of(text, homes_of)}
